@@ -19,7 +19,7 @@ IN: IN 0, LV 1, LV 1, IN 0, MT 4`
 VO: VN 0, VO 0, VO 0, VO 0, VO 0, VN 0
 VN: VN 0, LA 0, VN 0, VN 0, AA 1, VN 0
 AA: AA 0, LA 0, AA 0, AA 0, QA 2, VN 0
-QA: QA 0, LA 0, QA 0, AA 0, QA 0, VN 0
+QA: QA 0, LA 0, AA 0, AA 0, QA 0, VN 0
 LA: AA 0, LA 0, LA 0, LA 0, VO 3, VN 0`
 )
 
@@ -293,6 +293,7 @@ func TestRun(t *testing.T) {
 	runs(t, Registrar(), LV, []int{RAll, RJoin, RAll, RFlush, RFlush}, Cell{LV, ActNone}, Cell{IN, ActStop}, Cell{LV, ActStart}, Cell{MT, ActGo}, Cell{MT, ActNone})
 	runs(t, Applicant(), VO, []int{ANew, ATx, ATx, ATx, ALv, ATx, ATx}, Cell{VN, 0}, Cell{AA, SayNew}, Cell{QA, SayJoin}, Cell{QA, 0}, Cell{LA, 0}, Cell{VO, SayLeave}, Cell{VO, 0})
 	runs(t, Applicant(), QA, []int{APeriodic, ATx, ANew, ALv, AJoin}, Cell{AA, 0}, Cell{QA, SayJoin}, Cell{VN, 0}, Cell{LA, 0}, Cell{AA, 0})
+	runs(t, Applicant(), VO, []int{AJoin, ATx, ATx, AAll, ATx}, Cell{VN, 0}, Cell{AA, SayNew}, Cell{QA, SayJoin}, Cell{AA, 0}, Cell{QA, SayJoin})
 }
 
 func TestRunOfNoEvents(t *testing.T) {
@@ -634,4 +635,22 @@ func TestApplicantSays(t *testing.T) {
 			at++
 		}
 	})
+}
+
+// TestApplicantSaysOnceMore: what was said is said once more, and just once, when all is asked for, or when it is to be said again.
+func TestApplicantSaysOnceMore(t *testing.T) {
+	orders(6, 4, func(ahead []int) {
+		if last(VO, Run(Applicant(), VO, ahead...)) != QA {
+			return
+		}
+		for _, asked := range []int{AAll, APeriodic} {
+			cells := Run(Applicant(), VO, append(slices.Clone(ahead), asked, asked, ATx, ATx)...)
+			if got := said(cells[len(cells)-4:]); !slices.Equal(got, []int{SayJoin}) {
+				t.Errorf("by %v, %d: it says %v", ahead, asked, got)
+			}
+		}
+	})
+	if got := said(Run(Applicant(), QA, ATx, ATx)); len(got) != 0 {
+		t.Errorf("unasked it says %v", got)
+	}
 }
